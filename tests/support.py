@@ -1,0 +1,118 @@
+"""What several tests use: exact comparison, exact errors, sample worlds."""
+
+import random
+import unittest
+
+from turnbehind.deeds import go, moves
+from turnbehind.errors import TurnError
+from turnbehind.worlds import make_web, make_world
+
+
+class Case(unittest.TestCase):
+    """A test case that tells True from 1 and a list from a tuple."""
+
+    def same(self, value, wanted):
+        """The two plain values have the same shape and the same items, of Python's own kinds."""
+        self.assertEqual(repr(value), repr(wanted))
+        self.plain(value)
+
+    def plain(self, value):
+        """The value is of Python's own kinds, throughout."""
+        self.assertIn(type(value), (type(None), bool, int, str, tuple, list, dict))
+        if type(value) in (tuple, list):
+            for item in value:
+                self.plain(item)
+
+    def fails(self, wanted, call, *args, **named):
+        """The call raises an error of exactly this class, with exactly these attributes."""
+        with self.assertRaises(TurnError) as caught:
+            call(*args, **named)
+        error = caught.exception
+        self.assertIs(type(error), type(wanted))
+        self.assertIsInstance(error, ValueError)
+        self.same(vars(error), vars(wanted))
+
+    def judges(self, judge, values, wanted):
+        """The judge returns exactly this for each of the values."""
+        for value in values:
+            with self.subTest(value=value):
+                self.assertIs(judge(value), wanted)
+
+
+# Values of many kinds that are no tuple of deeds, of places and the like.
+ODD_VALUES = [
+    None, True, False, 0, 1, -1, 10 ** 19, "", "a", "aaaa", [], [[]], ["a"], [("u", None)], ("u", None), (("u",),),
+    (("u", None, None),), ((),), (None,), (True,), (0,), (1, 2), ("zz",), ("",), (("a",),), (["a"],), (["u", None],),
+    ((None, "u"),), (("u", True),), (("u", 0),), (("u", ""),), (("zz", None),), (("u", "zz"),), ((True, None),),
+    (((("u",), None),),), (([], None),), ((["u"], None),), (("u", ["bo"]),), (((((("a",),),),),),), ("u", "u"),
+    ("A",), ((0, 0),), (("u", ()),), [[[[[["a"]]]]]],
+]
+
+
+def two_ways(**told):
+    """A world over the places a, b and the ways u, v between them."""
+    return make_world(make_web(["a", "b"], [("u", "a", "b"), ("v", "a", "b")]), **told)
+
+
+def sample_world():
+    """A world with a live part, a still part, alike and named walkers, and two regions."""
+    web = make_web(
+        ["a", "b", "c", "d", "e", "f"],
+        [("u", "a", "b"), ("v", "b", "a"), ("w", "b", "c"), ("x", "d", "e"), ("y", "f", "a"), ("z", "f", "d")],
+    )
+    return make_world(
+        web,
+        heads=[("u", "b"), ("v", "a"), ("w", "c"), ("x", "e"), ("y", "a"), ("z", "d")],
+        alike=[("a", 1), ("d", 1)],
+        named=[("bo", "a"), ("al", "c"), ("cy", "d")],
+    )
+
+
+def some_worlds(count, *, seed=1, places=5, ways=7, walkers=4):
+    """So many different worlds, the same ones in each run."""
+    chance = random.Random(seed)
+    found = []
+    for _ in range(count):
+        spots = [f"p{k}" for k in range(chance.randint(2, places))]
+        rows = [(f"w{k}", *chance.sample(spots, 2)) for k in range(chance.randint(0, ways))]
+        crowd = chance.randint(0, walkers)
+        many_named = chance.randint(0, crowd)
+        numbers = {}
+        for _ in range(crowd - many_named):
+            spot = chance.choice(spots)
+            numbers[spot] = numbers.get(spot, 0) + 1
+        world = make_world(
+            make_web(spots, rows),
+            heads=[(way, chance.choice((one, other))) for way, one, other in rows],
+            alike=list(numbers.items()),
+            named=[(f"n{k}", chance.choice(spots)) for k in range(many_named)],
+        )
+        found.append(world)
+    return found
+
+
+def class_of(world):
+    """All worlds that histories lead to, found by trying every deed."""
+    found = {world: True}
+    line = [world]
+    while line:
+        now = line.pop()
+        for way, walker in moves(now):
+            after = go(now, way, walker)
+            if after not in found:
+                found[after] = True
+                line.append(after)
+    return list(found)
+
+
+def wander(world, count, seed=3):
+    """A history of at most so many deeds, each any possible one."""
+    chance = random.Random(seed)
+    deeds = []
+    for _ in range(count):
+        choices = moves(world)
+        if not choices:
+            break
+        deeds.append(chance.choice(choices))
+        world = go(world, *deeds[-1])
+    return tuple(deeds)
