@@ -2,9 +2,11 @@
 
 import random
 import unittest
+from itertools import combinations, product
 
 from turnbehind.deeds import go, moves
 from turnbehind.errors import TurnError
+from turnbehind.reaches import live_ways
 from turnbehind.worlds import make_web, make_world
 
 
@@ -91,18 +93,62 @@ def some_worlds(count, *, seed=1, places=5, ways=7, walkers=4):
     return found
 
 
-def class_of(world):
-    """All worlds that histories lead to, found by trying every deed."""
-    found = {world: True}
+def distances(world):
+    """A dict from each world that histories lead to to the fewest deeds, found by trying every deed."""
+    found = {world: 0}
     line = [world]
-    while line:
-        now = line.pop()
+    for now in line:
         for way, walker in moves(now):
             after = go(now, way, walker)
             if after not in found:
-                found[after] = True
+                found[after] = found[now] + 1
                 line.append(after)
-    return list(found)
+    return found
+
+
+def class_of(world):
+    """All worlds that histories lead to."""
+    return list(distances(world))
+
+
+def subsets(items):
+    """All ascending tuples of some of the items, which ascend."""
+    return [part for size in range(len(items) + 1) for part in combinations(items, size)]
+
+
+def every_world(web, alike=0, names=()):
+    """All worlds over the web with so many alike walkers and with these names."""
+    found = []
+    for heads in product(*[row[1:] for row in web[1]]):
+        for numbers in product(range(alike + 1), repeat=len(web[0])):
+            for spots in product(web[0], repeat=len(names)):
+                if sum(numbers) == alike:
+                    found.append(make_world(
+                        web, heads=[(row[0], head) for row, head in zip(web[1], heads)],
+                        alike=list(zip(web[0], numbers)), named=list(zip(names, spots)),
+                    ))
+    return found
+
+
+def largest_worlds(count, *, seed=1, named=None, live=None):
+    """So many worlds of 10 places, 14 ways and 8 walkers; so many of these named, and so many ways live, if told."""
+    chance = random.Random(seed)
+    found = []
+    while len(found) < count:
+        spots = [f"p{k}" for k in range(10)]
+        rows = [(f"w{k:02d}", *chance.sample(spots, 2)) for k in range(14)]
+        many = chance.randint(0, 8) if named is None else named
+        numbers = {}
+        for _ in range(8 - many):
+            spot = chance.choice(spots)
+            numbers[spot] = numbers.get(spot, 0) + 1
+        world = make_world(
+            make_web(spots, rows), heads=[(way, chance.choice(ends)) for way, *ends in rows],
+            alike=list(numbers.items()), named=[(f"n{k}", chance.choice(spots)) for k in range(many)],
+        )
+        if live is None or len(live_ways(world)) == live:
+            found.append(world)
+    return found
 
 
 def wander(world, count, seed=3):

@@ -37,6 +37,8 @@ WORDS = {
     "getattr", "globals", "hasattr", "help", "id", "importlib", "license", "locals", "methodcaller", "os", "quit",
     "setattr", "super", "type", "vars", "sys", "hash", "next", "map", "filter", "print", "object", "format",
 }
+# L2
+LIBRARY = {"math": {"comb", "gcd", "lcm", "isqrt", "perm", "factorial"}}
 SEQUENCES = (ast.List, ast.Tuple, ast.Dict)
 
 
@@ -92,6 +94,9 @@ class Language(unittest.TestCase):
         for _, tree in self.each():
             for node in [part for part in ast.walk(tree) if isinstance(part, ast.ImportFrom)]:
                 self.assertEqual(node.level, 0)
+                if node.module in LIBRARY:
+                    self.assertLessEqual({alias.name for alias in node.names}, LIBRARY[node.module])
+                    continue
                 home = PACKAGE.parent / (node.module.replace(".", "/") + ".py")
                 self.assertTrue(node.module.startswith("turnbehind."))
                 own = [part for part in ast.parse(home.read_text()).body if not isinstance(part, ast.ImportFrom)]
@@ -105,11 +110,21 @@ class Language(unittest.TestCase):
     def test_no_two_files_import_from_each_other(self):
         needs = {}
         for file, _ in self.each():
-            needs[file.stem] = [node.module.split(".")[1] for node in nodes(file, ast.ImportFrom)]
+            modules = [node.module.split(".") for node in nodes(file, ast.ImportFrom)]
+            needs[file.stem] = [module[1] for module in modules if module[0] == "turnbehind"]
         while needs:
             free = [name for name in needs if not any(need in needs for need in needs[name])]
             self.assertTrue(free, needs)
             needs = {name: needs[name] for name in needs if name not in free}
+
+    def test_what_the_library_lends_is_only_called(self):
+        for file, tree in self.each():
+            lent = [alias.name for node in nodes(file, ast.ImportFrom) if node.module in LIBRARY for alias in node.names]
+            read = [node for node in nodes(file, ast.Name) if node.id in lent]
+            called = [node for node in nodes(file, ast.Call) if getattr(node.func, "id", "") in lent]
+            self.assertEqual(len(read), len(called))
+            for node in called:
+                self.assertEqual(node.keywords, [])
 
     def test_every_import_is_used(self):
         for file, _ in self.each():

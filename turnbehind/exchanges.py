@@ -59,7 +59,15 @@ def exchanged(world, one, other):
 
 def find_exchange(world, one, other):
     """A history that leads to the world with the two walkers exchanged, or None; raises Unknown."""
-    chain = find_chain(world, place_of(world, one), place_of(world, other))
+    start = place_of(world, one)
+    return exchange_deeds(world, (start, one), (place_of(world, other), other))
+
+
+def exchange_deeds(world, first, second):
+    """A history that exchanges two walkers (place, walker), named or alike, or None if there is none."""
+    place, one = first
+    spot, other = second
+    chain = find_chain(world, place, spot)
     if chain is None:
         return None
     last = len(chain) - 1

@@ -36,7 +36,11 @@ def check_places(world, places):
 
 def arrows(world):
     """The triples (way, tail, head) of all ways, in way order."""
-    web, heads, _ = world
+    return arrows_to(world[0], world[1])
+
+
+def arrows_to(web, heads):
+    """The triples (way, tail, head) of all ways if they point to these heads, in way order."""
     rows = []
     for (way, low, high), head in zip(web[1], heads):
         rows.append((way, high if head == low else low, head))
@@ -66,6 +70,22 @@ def crowd_sizes(world):
 def occupied(world):
     """The places where a walker stands, in place order."""
     return [place for place, size in zip(world[0][0], crowd_sizes(world)) if size > 0]
+
+
+def ascending_part(value, places):
+    """True if the any value is an ascending tuple of some of the places."""
+    if not isinstance(value, tuple) or not all([place in places for place in value]):
+        return False
+    return list(value) == sorted(set(value))
+
+
+def peopled(web, heads, sizes, spots):
+    """The world with so many walkers at each place, of whom the named ones stand at these spots (name, place)."""
+    crowd = []
+    for place, size in zip(web[0], sizes):
+        names = sorted([name for name, spot in spots if spot == place])
+        crowd.append((size - len(names), tuple(names)))
+    return (web, heads, tuple(crowd))
 
 
 def check_like(one, other):

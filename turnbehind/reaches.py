@@ -1,6 +1,8 @@
 """What walkers can come to, and what no deed changes."""
 
-from turnbehind.parts import arrows, check_like, check_places, crowd_sizes, name_spots, occupied, place_at
+from turnbehind.errors import TooLarge
+from turnbehind.parts import arrows, arrows_to, ascending_part, check_like, check_places, crowd_sizes, name_spots
+from turnbehind.parts import occupied, place_at
 from turnbehind.worlds import differing, place_of
 
 
@@ -14,6 +16,12 @@ def due(world, place):
     """The due of the place; raises Unknown."""
     at = place_at(world[0], place)
     return dues(world)[at]
+
+
+def sizes_under(world, heads):
+    """The number of walkers at each place, in place order, that the dues leave if the ways point to these heads."""
+    tails = [tail for way, tail, head in arrows_to(world[0], heads)]
+    return [tails.count(place) - owed for place, owed in zip(world[0][0], dues(world))]
 
 
 def steps_from(steps, origins):
@@ -48,11 +56,15 @@ def reach(world):
 def regions(world):
     """The tuple of the regions, ordered by their first places."""
     within = reach(world)
-    steps = [(tail, head) for tail, head in pointed(world) if tail in within and head in within]
+    return linked([(tail, head) for tail, head in pointed(world) if tail in within and head in within], within)
+
+
+def linked(steps, places):
+    """The tuple of the parts into which the ascending places fall when steps, whichever way, link them."""
     back = [(head, tail) for tail, head in steps]
     parts = []
     told = []
-    for place in within:
+    for place in places:
         if place not in told:
             part = sorted(list(steps_from(steps + back, [place])))
             parts.append(tuple(part))
@@ -79,6 +91,13 @@ def still_ways(world):
     """The ascending tuple of the ways that are not live."""
     live = live_ways(world)
     return tuple([way for way, tail, head in arrows(world) if way not in live])
+
+
+def check_live(world, most):
+    """Raises TooLarge if the world has more live ways than a search can take."""
+    size = len(live_ways(world))
+    if size > most:
+        raise TooLarge("live", size)
 
 
 def can_come(world, origin, place):
@@ -110,9 +129,7 @@ def shortest(rows, origin, place):
 
 def is_shore(world, places):
     """True if the any value is a shore of the world."""
-    if not isinstance(places, tuple) or not all([place in world[0][0] for place in places]):
-        return False
-    if list(places) != sorted(set(places)):
+    if not ascending_part(places, world[0][0]):
         return False
     if not all([place in places for place in occupied(world)]):
         return False

@@ -62,6 +62,11 @@ def check_told(web, heads, alike, named):
         place_at(web, place)
     for _, place in named:
         place_at(web, place)
+    check_head_ends(web, heads)
+
+
+def check_head_ends(web, heads):
+    """Raises BadEnd for the first pair (way, place) of the web whose place is not an end of its way."""
     for way, place in heads:
         _, low, high = web[1][way_at(web, way)]
         if place not in (low, high):
