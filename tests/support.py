@@ -7,7 +7,7 @@ from itertools import combinations, product
 from turnbehind.deeds import go, moves
 from turnbehind.errors import TurnError
 from turnbehind.reaches import live_ways
-from turnbehind.worlds import make_web, make_world
+from turnbehind.worlds import make_web, make_world, names_of, rename_world
 
 
 class Case(unittest.TestCase):
@@ -91,6 +91,16 @@ def some_worlds(count, *, seed=1, places=5, ways=7, walkers=4):
         )
         found.append(world)
     return found
+
+
+def apart(world):
+    """The world with other names throughout."""
+    return rename_world(
+        world,
+        places=[(place, "q" + place) for place in world[0][0]],
+        ways=[(row[0], "q" + row[0]) for row in world[0][1]],
+        walkers=[(name, "q" + name) for name in names_of(world)],
+    )
 
 
 def distances(world):

@@ -2,16 +2,18 @@
 
 from math import comb
 
-from tests.support import Case, class_of, every_world, largest_worlds, sample_world, some_worlds, two_ways, wander
+from tests.support import Case, apart, class_of, every_world, largest_worlds, sample_world, some_worlds, two_ways
+from tests.support import wander
 from tests.test_pictures import EMPTY, WRONG, some_pictures, told_in
-from turnbehind.classes import class_key, count_class, count_fits, count_pointings, least_member, member, members, rank_of
+from turnbehind.classes import class_key, count_class, count_fits, count_pointings
+from turnbehind.classes import least_member, member, members, rank_of
 from turnbehind.errors import BadNumber, TooLarge
 from turnbehind.histories import replay
 from turnbehind.papers import comes_of
 from turnbehind.pictures import make_picture, picture_of
 from turnbehind.reaches import dues, live_ways, reach, region_of
 from turnbehind.standings import standing_of
-from turnbehind.worlds import beside, head_of, make_web, make_world, names_of, place_of, rename_world
+from turnbehind.worlds import beside, head_of, make_web, make_world, names_of, place_of
 
 # Classes of exactly so many worlds.
 TWO_HUNDRED = make_world(
@@ -125,11 +127,9 @@ class Counts(Case):
     def test_beside(self):
         cases = some_worlds(40, seed=135, places=3, ways=4, walkers=2)
         for one, two in zip(cases, cases[1:]):
-            other = rename_world(two, places=[(place, f"q{place}") for place in two[0][0]],
-                                 ways=[(row[0], f"q{row[0]}") for row in two[0][1]],
-                                 walkers=[(name, f"q{name}") for name in names_of(two)])
-            self.same(count_class(beside(one, other)), count_class(one) * count_class(two))
-            self.same(count_pointings(beside(one, other)), count_pointings(one) * count_pointings(two))
+            joint = beside(one, apart(two))
+            self.same(count_class(joint), count_class(one) * count_class(two))
+            self.same(count_pointings(joint), count_pointings(one) * count_pointings(two))
 
     def test_many_worlds_fit(self):
         world = sheaf(8, {"named": [(f"n{k}", "ab"[k % 2]) for k in range(8)]})

@@ -1,9 +1,9 @@
 """Points 17 to 19: single deeds, and what they are in the mirror and side by side."""
 
-from tests.support import Case, class_of, sample_world, some_worlds, two_ways
+from tests.support import Case, apart, class_of, distances, sample_world, some_worlds, two_ways
 from turnbehind.deeds import can_go, go, moves
 from turnbehind.errors import NoDeed, Unknown
-from turnbehind.worlds import beside, head_of, make_web, make_world, names_of, place_of, rename_world, tail_of
+from turnbehind.worlds import beside, head_of, make_web, make_world, names_of, place_of, tail_of
 
 
 class Go(Case):
@@ -92,29 +92,6 @@ class Moves(Case):
         world = two_ways(alike=[("a", 1)])
         moves(world).append("more")
         self.same(moves(world), [("u", None), ("v", None)])
-
-
-def distances(world):
-    """A dict from each world of the class to the fewest deeds that lead to it."""
-    far = {world: 0}
-    line = [world]
-    for now in line:
-        for way, walker in moves(now):
-            after = go(now, way, walker)
-            if after not in far:
-                far[after] = far[now] + 1
-                line.append(after)
-    return far
-
-
-def apart(world):
-    """The world with other names throughout."""
-    return rename_world(
-        world,
-        places=[(place, "q" + place) for place in world[0][0]],
-        ways=[(row[0], "q" + row[0]) for row in world[0][1]],
-        walkers=[(name, "q" + name) for name in names_of(world)],
-    )
 
 
 class SideBySide(Case):

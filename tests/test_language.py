@@ -119,7 +119,8 @@ class Language(unittest.TestCase):
 
     def test_what_the_library_lends_is_only_called(self):
         for file, tree in self.each():
-            lent = [alias.name for node in nodes(file, ast.ImportFrom) if node.module in LIBRARY for alias in node.names]
+            rows = [node for node in nodes(file, ast.ImportFrom) if node.module in LIBRARY]
+            lent = [alias.name for node in rows for alias in node.names]
             read = [node for node in nodes(file, ast.Name) if node.id in lent]
             called = [node for node in nodes(file, ast.Call) if getattr(node.func, "id", "") in lent]
             self.assertEqual(len(read), len(called))

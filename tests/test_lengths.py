@@ -79,7 +79,8 @@ class Shortest(Case):
         self.same(is_shortest(deeds=(), end=start, start=start), True)
         wrong = [
             (), (("w1", None),), (("w0", None), ("w1", None), ("w1", None)), (("w1", None), ("w1", None), ("w0", None)),
-            [("w0", None)], (["w0", None],), (("w0", True),), (("w0",),), ("w0", None), (("zz", None),), (("w0", "zz"),),
+            [("w0", None)], (["w0", None],), (("w0", True),), (("w0",),), ("w0", None), (("zz", None),),
+            (("w0", "zz"),),
         ]
         self.judges(lambda value: is_shortest(start, value, end), [*wrong, *ODD_VALUES], False)
         self.same(is_shortest(start, (("w0", None), ("w0", None)), start), False)
@@ -103,6 +104,7 @@ class Shortest(Case):
             self.fails(Unlike("names"), call, named, two_ways())
             self.fails(Unlike("names"), call, two_ways(), named)
             self.fails(Named(("al", "bo")), call, named, named)
+            self.fails(Named(("al", "bo")), call, named, two_ways(named=[("al", "b"), ("bo", "b")], alike=[("a", 1)]))
 
 
 class Length(Case):
@@ -175,7 +177,7 @@ class Length(Case):
 
     def test_many_histories(self):
         start = sheaf(6, 4, 4, 3)
-        # Every way can always be walked: as many histories as there are closed walks of 12 steps on a cube of six edges.
+        # Every way can always be walked: these are the closed walks of 12 steps on a cube of six dimensions.
         self.same(count_in(start, start, 12), 71172096)
         self.same(count_in(start, go(start, "w5"), 11), 71172096 // 6)
         self.same(count_in(end=start, length=11, start=start), 0)
@@ -197,7 +199,8 @@ class Length(Case):
                 self.same(count_in(world, end, length), counts.get(end, 0))
 
     def test_six_and_seven_live_ways(self):
-        still = make_web(["a", "b", "c"], [(f"w{k}", "a", "b") for k in range(6)] + [(f"x{k}", "b", "c") for k in range(8)])
+        rows = [(f"w{k}", "a", "b") for k in range(6)] + [(f"x{k}", "b", "c") for k in range(8)]
+        still = make_web(["a", "b", "c"], rows)
         world = make_world(still, heads=[(f"x{k}", "b") for k in range(8)], alike=[("a", 1)])
         self.same(len(live_ways(world)), 6)
         self.same((count_in(world, world, 2), sum(spread(world))), (6, len(distances(world))))
@@ -206,7 +209,8 @@ class Length(Case):
         self.fails(TooLarge("live", 14), count_in, more, world, 1)
         self.same(count_in(world, more, 1), 0)
         self.fails(TooLarge("live", 7), count_in, sheaf(7, 1, 0), sheaf(7, 0, 0), 0)
-        self.same((can_in(sheaf(7, 1, 0), sheaf(7, 1, 0), 2), len(find_in(sheaf(7, 1, 0), sheaf(7, 1, 0), 2))), (True, 2))
+        seven = sheaf(7, 1, 0)
+        self.same((can_in(seven, seven, 2), len(find_in(seven, seven, 2))), (True, 2))
 
 
 class Spread(Case):

@@ -169,7 +169,7 @@ class Judged(Case):
         end = two_ways(heads=[("u", "a")], named=[("al", "a")], alike=[("a", 1)])
         self.same(is_paper(paper=("due", "a"), end=end, start=start), True)
         values = [
-            *ODD_VALUES, "due", ("due",), ("due", "a", "a"), ["due", "a"], ("due", "zz"), ("due", ("a",)),
+            *ODD_VALUES, (), "due", ("due",), ("due", "a", "a"), ["due", "a"], ("due", "zz"), ("due", ("a",)),
             ("due", ["a"]), ("due", None), ("due", True), ("due", 0), ("due", ""), ("dues", "a"), (None, "a"),
             (True, "a"), (("due",), "a"), (["due"], "a"), ("shore",), ("shore", "a"), ("shore", ()),
             ("shore", ("a", "b")), ("shore", ["a"]), ("shore", None), ("shore", ("b", "a")), ("shore", (), ()),
@@ -181,6 +181,19 @@ class Judged(Case):
             ("name", "al", (("a", "b"),), (("b",),)), ("name", "al", (1, True), (1,)),
         ]
         self.judges(lambda value: is_paper(start, end, value), values, False)
+
+    def test_other_words(self):
+        start = make_world(LINE, heads=[("u", "b"), ("v", "b"), ("w", "a")], named=[("al", "a")])
+        end = make_world(LINE, heads=[("u", "a"), ("v", "c"), ("w", "b")], named=[("al", "b")])
+        right = [("due", "a"), ("shore", ("a", "b"))]
+        apart = make_web(["a", "b"], [])
+        here, there = [make_world(apart, alike=[(one, 1)], named=[("al", two)]) for one, two in ("ab", "ba")]
+        stays = ("name", "al", ("a", "b"), ("b",))
+        for one, two, papers in ((start, end, right), (here, there, [stays])):
+            for paper in papers:
+                self.same(is_paper(one, two, paper), True)
+                for word in ("", "due", "shore", "name", "shores", None, True, 0, (), ("shore",), ["shore"], []):
+                    self.same(is_paper(one, two, (word, *paper[1:])), word == paper[0])
 
     def test_none_for_a_world_that_comes(self):
         for value in [*ODD_VALUES, ("due", "a"), ("shore", ()), ("shore", ("a", "b"))]:

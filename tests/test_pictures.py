@@ -96,8 +96,8 @@ def bars_of(world):
 class Making(Case):
     def test_ascending_pairs(self):
         self.same(make_picture(), EMPTY)
-        self.same(make_picture(heads=[["v", "a"], ("u", "b")], counts=(("b", 0), ["a", 8]), spots=[("bo", "a"), ("al", "b")]),
-                  ((("u", "b"), ("v", "a")), (("a", 8), ("b", 0)), (("al", "b"), ("bo", "a"))))
+        told = {"heads": [["v", "a"], ("u", "b")], "counts": (("b", 0), ["a", 8]), "spots": [("bo", "a"), ("al", "b")]}
+        self.same(make_picture(**told), ((("u", "b"), ("v", "a")), (("a", 8), ("b", 0)), (("al", "b"), ("bo", "a"))))
         self.same(make_picture(heads=(["", "A b"],), spots=[("NOT A NAME AT ALL", "")]),
                   ((("", "A b"),), (), (("NOT A NAME AT ALL", ""),)))
         self.same(make_picture(heads=[("u", "a")], counts=[("u", 1)], spots=[("u", "u")]),
@@ -112,7 +112,7 @@ class Making(Case):
         self.fails(Repeated("u"), make_picture, heads=[("v", "a"), ("u", "a"), ("u", "a"), ("v", "b")])
         self.fails(Repeated("v"), make_picture, heads=[("v", "a"), ["v", "b"]], counts=[("a", 1), ("a", 1)])
         self.fails(Repeated("a"), make_picture, counts=[("a", 1), ("a", 2)], spots=[("al", "a"), ("al", "a")])
-        self.fails(Repeated("al"), make_picture, heads=[("al", "a")], counts=[("al", 1)], spots=[("al", "a"), ("al", "b")])
+        self.fails(Repeated("al"), make_picture, heads=[("al", "a")], spots=[("al", "a"), ("al", "b")])
 
 
 class Showing(Case):
@@ -178,7 +178,8 @@ class Bars(Case):
         self.assertEqual(kinds, {"still", "name", "crowd", "asks", "holds"})
 
     def test_places_outside_of_the_shore(self):
-        world = make_world(make_web(["a", "b", "c"], [("u", "a", "b"), ("v", "b", "c")]), heads=[("v", "b")], alike=[("b", 1)])
+        web = make_web(["a", "b", "c"], [("u", "a", "b"), ("v", "b", "c")])
+        world = make_world(web, heads=[("v", "b")], alike=[("b", 1)])
         picture = make_picture(counts=[("a", 1), ("b", 0), ("c", 0)])
         self.same(is_bar(world, picture, ("asks", ("a",), ("b",))), True)
         self.same(is_bar(world, picture, ("holds", ("b",), ("b",))), True)
@@ -212,7 +213,7 @@ class Bars(Case):
         self.same(is_bar(world, picture, ("crowd", "b")), True)
         self.same(is_bar(bar=("holds", ("b",), ("b",)), picture=picture, world=world), True)
         values = [
-            *ODD_VALUES, "crowd", ("crowd",), ("crowd", "a"), ["crowd", "b"], ("crowd", ["b"]), ("crowd", ("b",)),
+            *ODD_VALUES, (), "crowd", ("crowd",), ("crowd", "a"), ["crowd", "b"], ("crowd", ["b"]), ("crowd", ("b",)),
             ("crowd", "zz"), ("crowd", None), ("crowd", True), ("crowd", 0), ("crowd", "b", ()), ("crowd", "b", ("b",)),
             ("crowds", "b"), (None, "b"), (True, "b"), (("crowd",), "b"), (["crowd"], "b"), ("holds", ("b",)),
             ["holds", ("b",), ("b",)], ("holds", ["b"], ("b",)), ("holds", ("b",), ["b"]), ("holds", ("b",), ()),
@@ -231,15 +232,26 @@ class Bars(Case):
         self.judges(lambda value: is_bar(world, picture, value), values, False)
         self.same(is_bar(world, picture, ("still", "u", ("b",))), True)
 
+    def test_other_words(self):
+        world = two_ways(heads=[("u", "b"), ("v", "b")], alike=[("b", 1)], named=[("al", "b")])
+        picture = make_picture(heads=[("u", "a")], counts=[("a", 3), ("b", 0)], spots=[("al", "b")])
+        cases = [("crowd", "b"), ("still", "u", ("b",)), ("asks", ("a",), ("b",)), ("holds", ("b",), ("b",))]
+        for bar in cases:
+            self.same(is_bar(world, picture, bar), True)
+            for word in ("", "due", "name", "crowd", "still", "asks", "holds", None, True, 0, (), ["asks"], []):
+                self.same(is_bar(world, picture, (word, *bar[1:])), word == bar[0])
+
     def test_each_condition_of_a_name_alone(self):
         web = make_web(["a", "b", "c", "d"], [("u", "a", "b"), ("v", "c", "d")])
         world = make_world(web, alike=[("c", 1)], named=[("al", "a"), ("bo", "c")])
         picture = make_picture(spots=[("al", "c")])
         every = ("a", "b", "c", "d")
         self.same(is_bar(world, picture, ("name", "al", every, ("a", "b"))), True)
-        wrong = [("bo", every, ("c", "d")), ("al", ("a", "b"), ("a", "b")), ("al", every, ("a",)), ("al", every, ("b",)),
-                 ("al", every, every), ("al", every, ("c", "d")), ("al", every, ("b", "a")), ("al", every, ()),
-                 ("al", ("a", "b", "c"), ("a", "b")), ("al", every, ("a", "b", "zz")), ("al", every, ("a", "b", "d"))]
+        wrong = [
+            ("bo", every, ("c", "d")), ("al", ("a", "b"), ("a", "b")), ("al", every, ("a",)), ("al", every, ("b",)),
+            ("al", every, every), ("al", every, ("c", "d")), ("al", every, ("b", "a")), ("al", every, ()),
+            ("al", ("a", "b", "c"), ("a", "b")), ("al", every, ("a", "b", "zz")), ("al", every, ("a", "b", "d")),
+        ]
         for name, shore, side in wrong:
             self.same(is_bar(world, picture, ("name", name, shore, side)), False)
         self.same(is_bar(world, make_picture(spots=[("al", "b")]), ("name", "al", every, ("a", "b"))), False)

@@ -2,12 +2,12 @@
 
 import random
 
-from tests.support import ODD_VALUES, Case, distances, every_world, largest_worlds, some_worlds, two_ways, wander
+from tests.support import ODD_VALUES, Case, apart, distances, every_world, largest_worlds, some_worlds, two_ways, wander
 from turnbehind.errors import Named, Unlike
 from turnbehind.histories import replay
 from turnbehind.papers import comes_of
 from turnbehind.tables import clusters, fewest, find_table, idle_clusters, is_table
-from turnbehind.worlds import bag_at, beside, differing, head_of, make_web, make_world, rename_world, tail_of, unnamed
+from turnbehind.worlds import bag_at, beside, differing, head_of, make_web, make_world, tail_of, unnamed
 
 
 def bare_worlds(count, **told):
@@ -178,6 +178,7 @@ class Clusters(Case):
             self.fails(Unlike("names"), call, two_ways(), named)
             self.fails(Named(("al", "bo")), call, named, named)
             self.fails(Named(("al", "bo")), call, start=named, end=two_ways(named=[("al", "a"), ("bo", "a")]))
+            self.fails(Named(("al", "bo")), call, named, two_ways(named=[("al", "b"), ("bo", "b")], alike=[("a", 1)]))
 
 
 class Table(Case):
@@ -237,11 +238,8 @@ class Table(Case):
     def test_beside(self):
         cases = some_comings(40, seed=94, places=4, ways=5)
         for (start, end), (start2, end2) in zip(cases, cases[1:]):
-            names = {"places": [(place, f"q{place}") for place in start2[0][0]],
-                     "ways": [(row[0], f"q{row[0]}") for row in start2[0][1]]}
-            other, other_end = rename_world(start2, **names), rename_world(end2, **names)
             total = fewest(start, end) + fewest(start2, end2)
-            self.same(fewest(beside(start, other), beside(end, other_end)), total)
+            self.same(fewest(beside(start, apart(start2)), beside(end, apart(end2))), total)
 
     def test_largest_worlds(self):
         for at, start in enumerate(largest_worlds(20, seed=95, named=0)):
@@ -297,6 +295,14 @@ class Judged(Case):
             self.assertEqual(breaks(start, end, value), {condition})
             self.same(is_table(start, end, (groups, value), 0), False)
 
+    def test_walkers_at_several_places(self):
+        web = make_web(["a", "b", "c", "d"], [("l", "a", "b"), ("m", "b", "c"), ("u", "c", "d"), ("v", "c", "d")])
+        start, end = [make_world(web, heads=[(way, "c")], alike=[("a", 1), ("b", 2)]) for way in "vu"]
+        groups, rows = find_table(start, end)
+        self.same(rows[1], (2, 1, 0, 0, 1))
+        for last, wanted in (((2, 1, 0, 0, 1), True), ((2, 1, 0, 0, 2), False), ((0, 1, 0, 0, 1), False)):
+            self.same(is_table(start, end, (groups, (rows[0], last)), 0), wanted)
+
     def test_other_values(self):
         start, end = far_cluster()
         groups, rows = find_table(start, end)
@@ -308,8 +314,9 @@ class Judged(Case):
             (groups, ()), (groups, None), (None, rows), (groups, (rows[0], None)), (groups, (rows[0], list(last))),
             (groups, (list(rows[0]), last)), (groups, (rows[0], last[:3])), (groups, (rows[0], last + (0,))),
             (groups, (rows[0][:3], last)), (groups, (rows[0] + (0,), last)), (groups, (rows[0], (True, 0, 0, 1))),
-            (groups, (rows[0], (1, False, 0, 1))), (groups, ((False, 0, 0, 0), last)), (groups, (rows[0], (1, 0, 0, "1"))),
-            (groups, (rows[0], (1, 0, 0, None))), (groups, (rows[0], (1, 0, 0, -1))), (groups, (rows[0], (-1, 0, 0, 1))),
+            (groups, (rows[0], (1, False, 0, 1))), (groups, ((False, 0, 0, 0), last)),
+            (groups, (rows[0], (1, 0, 0, "1"))), (groups, (rows[0], (1, 0, 0, None))),
+            (groups, (rows[0], (1, 0, 0, -1))), (groups, (rows[0], (-1, 0, 0, 1))),
             (groups, (rows[0], (1, 0, 0, (1,)))), (groups, (rows[0], (100, 0, 0, 1))), ((("u",),), rows),
             ((("u", "zz"),), rows), (True, rows), (0, rows), ((("u", True),), rows), ("uv", rows),
         ]

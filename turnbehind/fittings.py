@@ -59,7 +59,7 @@ def plain_bar(world, picture, within):
 def supplied(rows, needs):
     """The rows, with free ones turned until each place is the tail of as many as it needs, and ().
 
-    If that cannot be, () is instead the tuple of places that together need more tails than they can have.
+    If that cannot be, the tuple of some places that together need more than they can have stands in the place of ().
     """
     now = rows
     for place in needs:
@@ -112,26 +112,15 @@ def joined(world, picture, parts):
     return [told for told in joint if told is not None and fitted(world, told)[1] is None]
 
 
-def head_parts(row):
-    """The pictures that each tell one head of a way (way, low, high)."""
-    return [make_picture(heads=[(row[0], end)]) for end in row[1:]]
-
-
-def spot_parts(world, name):
-    """The pictures that each tell one place for the named walker, in place order."""
-    return [make_picture(spots=[(name, place)]) for place in world[0][0]]
-
-
 def least_fit(world, picture):
     """The world that fits the picture and stands first in class order, or None; raises Unknown, BadEnd."""
     check_picture(world, picture)
     if fitted(world, picture)[1] is not None:
         return None
     told = picture
-    for row in world[0][1]:
-        told = joined(world, told, head_parts(row))[0]
-    for name in walker_names(world):
-        told = joined(world, told, spot_parts(world, name))[0]
+    for way, low, high in world[0][1]:
+        told = joined(world, told, [make_picture(heads=[(way, end)]) for end in (low, high)])[0]
+    # Where all heads are told, the fit has the least standing: each name in turn gets the first place that is free.
     return find_fit(world, told)
 
 
@@ -141,10 +130,10 @@ def must_heads(world, picture):
     if fitted(world, picture)[1] is not None:
         return None
     found = []
-    for row in world[0][1]:
-        ends = [told for told in row[1:] if joined(world, picture, [make_picture(heads=[(row[0], told)])])]
+    for way, low, high in world[0][1]:
+        ends = [end for end in (low, high) if joined(world, picture, [make_picture(heads=[(way, end)])])]
         if len(ends) == 1:
-            found.append((row[0], ends[0]))
+            found.append((way, ends[0]))
     return tuple(found)
 
 
@@ -163,5 +152,6 @@ def name_places(world, picture, name):
     check_known(world, picture)
     place_of(world, name)
     check_head_ends(world[0], picture[0])
-    told = [dict(joint[2])[name] for joint in joined(world, picture, spot_parts(world, name))]
+    parts = [make_picture(spots=[(name, place)]) for place in world[0][0]]
+    told = [dict(joint[2])[name] for joint in joined(world, picture, parts)]
     return tuple(told) if told else None

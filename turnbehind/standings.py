@@ -55,7 +55,7 @@ def count_standings(world):
 
 
 def count_fillings(homes, rooms):
-    """The number of ways to give each walker a place of its home, and no place to more walkers than it has room for."""
+    """The number of ways to give each walker a place of its home, and no place more walkers than it has room for."""
     if min(rooms.values()) < 0:
         return 0
     total = 1
@@ -132,13 +132,14 @@ def searched(world, target):
     homes = home_list(world)
     rooms = room_table(world)
     line = [standing_of(world)]
-    found = {line[0]: ()}
+    found = {standing_of(world): ()}
     at = 0
     while tuple(target) not in found:
-        for exchange in choices(names, line[at], homes, rooms):
-            after = applied(names, line[at], exchange)
+        now = line[at]
+        for exchange in choices(names, now, homes, rooms):
+            after = applied(names, now, exchange)
             if after not in found:
-                found[after] = found[line[at]] + (exchange,)
+                found[after] = found[now] + (exchange,)
                 line.append(after)
         at += 1
     return found[tuple(target)]
