@@ -60,6 +60,11 @@ class Order(Case):
                 self.same(rank_of(worlds[rank]), rank)
                 self.same(member(worlds[-1], rank), worlds[rank])
 
+    def test_new_list(self):
+        world = two_ways(heads=[("v", "a")], alike=[("a", 1)])
+        members(world).append("more")
+        self.same(members(world), in_order(world))
+
     def test_names_make_the_order(self):
         world = two_ways(heads=[("v", "a")], alike=[("a", 1)], named=[("al", "b"), ("bo", "a")])
         worlds = in_order(world)

@@ -103,6 +103,11 @@ class Making(Case):
         self.same(make_picture(heads=[("u", "a")], counts=[("u", 1)], spots=[("u", "u")]),
                   ((("u", "a"),), (("u", 1),), (("u", "u"),)))
 
+    def test_arguments_are_kept(self):
+        heads, counts, spots = [["v", "a"], ("u", "b")], [["b", 1], ["a", 0]], [["bo", "a"]]
+        make_picture(heads=heads, counts=counts, spots=spots)
+        self.same((heads, counts, spots), ([["v", "a"], ("u", "b")], [["b", 1], ["a", 0]], [["bo", "a"]]))
+
     def test_numbers(self):
         for number in (None, True, False, "", "1", -1, 9, 10 ** 19, -10 ** 19):
             self.fails(BadNumber(number), make_picture, counts=[("a", 8), ("b", number), ("c", 99)])

@@ -106,6 +106,16 @@ class Standing(Case):
         if target == standing_of(world):
             self.same(deeds, ())
 
+    def test_new_lists_and_kept_arguments(self):
+        world = sample_world()
+        standings(world).append("more")
+        self.same(len(standings(world)), 3)
+        target = ["a", "c", "d"]
+        for call in WITH_TARGET:
+            call(world, target)
+        is_exchanges(world, target, ())
+        self.same((target, world), (["a", "c", "d"], sample_world()))
+
     def test_without_names(self):
         for world in (two_ways(), two_ways(alike=[("a", 8)])):
             self.same(can_stand(world, ()), True)
