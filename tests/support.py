@@ -172,3 +172,42 @@ def wander(world, count, seed=3):
         deeds.append(chance.choice(choices))
         world = go(world, *deeds[-1])
     return tuple(deeds)
+
+
+def some_pieces(count, *, seed=1, border=None, inner=3, ways=6, walkers=3):
+    """So many pieces, with so many border places or any number of them, the same ones in each run."""
+    chance = random.Random(seed)
+    found = []
+    for _ in range(count):
+        many = border or chance.randint(1, 3)
+        spots = [f"p{k}" for k in range(max(2, many + chance.randint(0, inner)))]
+        edge = chance.sample(spots, many)
+        insides = [place for place in spots if place not in edge]
+        rows = [(f"w{k}", *chance.sample(spots, 2)) for k in range(chance.randint(0, ways))]
+        numbers = {}
+        for _ in range(chance.randint(0, walkers) if insides else 0):
+            spot = chance.choice(insides)
+            numbers[spot] = numbers.get(spot, 0) + 1
+        world = make_world(
+            make_web(spots, rows), heads=[(way, chance.choice((one, other))) for way, one, other in rows],
+            alike=list(numbers.items()),
+        )
+        found.append((world, tuple(edge)))
+    return found
+
+
+def sized(count):
+    """A world whose class has 40, 41, 100 or 101 worlds."""
+    line = make_web(["a", "b", "c"], [("w0", "b", "c"), ("w1", "a", "b")])
+    bow = make_web(["a", "b", "c"], [("w0", "b", "c"), ("w1", "b", "c"), ("w2", "a", "c")])
+    pair = make_web(["a", "b"], [("w0", "a", "b"), ("w1", "a", "b")])
+    near = {"n0": "c", "n1": "c", "n2": "c", "n3": "c"}
+    told = {
+        40: (line, ["b", "a"], {"b": 1}, near),
+        41: (pair, ["a", "a"], {"b": 2}, {"n0": "a", "n1": "b", "n2": "b", "n3": "b"}),
+        100: (bow, ["b", "b", "c"], {"b": 2, "c": 1}, {"n0": "c", "n1": "c", "n2": "a"}),
+        101: (line, ["b", "a"], {"b": 2}, {"n0": "a", "n1": "a", "n2": "b", "n3": "c"}),
+    }
+    web, heads, numbers, named = told[count]
+    told_heads = [(row[0], head) for row, head in zip(web[1], heads)]
+    return make_world(web, heads=told_heads, alike=list(numbers.items()), named=list(named.items()))

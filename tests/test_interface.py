@@ -127,10 +127,83 @@ INTERFACE = {
         "shape": "(world)",
         "find_renaming": "(one, other)",
     },
+    "borders": {
+        "make_piece": "(world, border)",
+        "load": "(piece)",
+        "closure": "(piece, lit)",
+        "shifts": "(piece, lit)",
+        "behaviour": "(piece)",
+        "are_alike": "(one, other)",
+        "lift_way": "(piece, way)",
+        "trim": "(piece)",
+    },
+    "gluing": {
+        "glue": "(first, second, guests)",
+        "views": "(first, second, guests)",
+        "guest_rows": "(piece, guests)",
+        "find_telling": "(one, other)",
+        "is_telling": "(one, other, telling)",
+    },
+    "diaries": {
+        "make_diary": "(world, entries)",
+        "fits_diary": "(diary)",
+        "find_run": "(diary)",
+        "is_run": "(diary, deeds)",
+        "worlds_at": "(diary, moment)",
+        "must_at": "(diary, moment)",
+        "may_at": "(diary, moment, kind, subject)",
+    },
+    "wrongs": {
+        "first_misfit": "(diary)",
+        "find_cover": "(diary)",
+        "is_cover": "(diary, cover)",
+        "is_wrong_set": "(diary, indexes)",
+        "least_wrong": "(diary)",
+        "wrong_sets": "(diary, *, most=10)",
+    },
+    "errands": {
+        "write_errand": "(errand)",
+        "tidy": "(errand)",
+        "errand_of": "(deeds)",
+        "read_errand": "(text)",
+    },
+    "running": {
+        "run": "(errand, world, walker, *, fuel=24)",
+        "outcome": "(errand, world, walker, *, fuel=24)",
+        "find_parting": "(one, other, world, walker, *, fuel=24)",
+    },
+    "changes": {
+        "changed": "(world, change)",
+        "back_change": "(world, change)",
+        "split_class": "(world, change)",
+        "fate": "(one, other, change)",
+        "joining_lays": "(one, other)",
+    },
+    "book": {"Book": "(world)"},
+    "audits": {
+        "audit": "(world, rows)",
+        "first_difference": "(one, other)",
+        "shortened": "(book)",
+        "conflicts": "(book)",
+    },
+}
+
+ERRORS = {
+    "BadName": "(name)", "BadNumber": "(number)", "BadSize": "(what, size)", "Repeated": "(name)",
+    "Unknown": "(what, name)", "BadEnd": "(way, place)", "NoWalker": "(place)", "Occupied": "(place)",
+    "Unlike": "(what)", "Named": "(names)", "TooLarge": "(what, size)", "NoDeed": "(index, way, cause)",
+    "BadText": "(at)", "NoRun": "(at, cause)", "BadRow": "(index)",
 }
 
 BAG_PROPERTIES = ("alike", "named", "many", "pair")
 BAG_METHODS = ("__init__", "__contains__", "__iter__", "__bool__", "__add__", "__sub__")
+BOOK_PROPERTIES = ("start", "world", "rows")
+BOOK_METHODS = {
+    "__len__": "(self)", "__bool__": "(self)", "__iter__": "(self)", "__contains__": "(self, x)",
+    "go": "(self, way, walker=None)", "go_all": "(self, deeds)", "alter": "(self, change)",
+    "claim": "(self, end, says, paper)", "undo": "(self)", "known": "(self, end)", "world_at": "(self, number)",
+    "twin": "(self)",
+}
 
 
 class Interface(unittest.TestCase):
@@ -154,6 +227,25 @@ class Interface(unittest.TestCase):
             own = [name for name in vars(module) if getattr(vars(module)[name], "__module__", "") == module.__name__]
             judges = [name for name in own if name.startswith("is_")]
             self.assertEqual(judges, [name for name in names if name.startswith("is_")])
+
+    def test_errors(self):
+        module = import_module("turnbehind.errors")
+        for name, wanted in ERRORS.items():
+            self.assertEqual(str(inspect.signature(getattr(module, name))), wanted)
+        for name in [*ERRORS, "NothingLeft", "BadClaim"]:
+            self.assertEqual(getattr(module, name).__bases__, (module.TurnError,))
+            self.assertEqual(getattr(module, name).__module__, "turnbehind.errors")
+        self.assertEqual(module.TurnError.__bases__, (ValueError,))
+
+    def test_members_of_book_stand_in_the_class_itself(self):
+        book = import_module("turnbehind.book").Book
+        for name in BOOK_PROPERTIES:
+            self.assertIsInstance(vars(book)[name], property)
+            self.assertIsNone(vars(book)[name].fset)
+        for name, wanted in BOOK_METHODS.items():
+            self.assertEqual(str(inspect.signature(vars(book)[name])), wanted)
+        self.assertIsInstance(vars(book)["made"], classmethod)
+        self.assertEqual(str(inspect.signature(book.made)), "(world, rows)")
 
     def test_members_of_bag_stand_in_the_class_itself(self):
         body = vars(import_module("turnbehind.bags").Bag)

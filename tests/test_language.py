@@ -28,7 +28,7 @@ DOUBLE = {
 # L6, L7: what does not occur at all
 BARRED = (
     ast.AsyncFunctionDef, ast.AsyncFor, ast.AsyncWith, ast.Await, ast.Global, ast.Nonlocal, ast.Import, ast.Div,
-    ast.MatMult, ast.Yield, ast.YieldFrom, ast.Try, ast.With, ast.NamedExpr, ast.AnnAssign,
+    ast.MatMult, ast.Yield, ast.YieldFrom, ast.With, ast.NamedExpr, ast.AnnAssign, ast.Match, ast.Assert, ast.Lambda,
 )
 # L17
 WORDS = {
@@ -50,6 +50,7 @@ def nodes(file, kind):
 def bound_in(function):
     """All names that are bound in a function: parameters, targets, variables of comprehensions."""
     names = [node.arg for node in ast.walk(function) if isinstance(node, ast.arg)]
+    names += [node.name for node in ast.walk(function) if isinstance(node, ast.ExceptHandler) and node.name]
     stored = [node for node in ast.walk(function) if isinstance(node, ast.Name)]
     return names + [node.id for node in stored if isinstance(node.ctx, ast.Store)]
 
@@ -215,6 +216,26 @@ class Language(unittest.TestCase):
             for node in nodes(file, ast.Raise):
                 self.assertIn(node.exc.func.id, errors)
                 self.assertIsNone(node.cause)
+
+    def test_handlers_catch_own_errors(self):
+        errors = top_names(ast.parse((PACKAGE / "errors.py").read_text()))
+        for file, _ in self.each():
+            for node in nodes(file, ast.Try):
+                self.assertEqual((node.finalbody, node.orelse), ([], []))
+                for handler in node.handlers:
+                    self.assertIn(handler.type.id, errors)
+
+    def test_loops_do_not_change_what_they_go_over(self):
+        changing = {"append", "clear", "extend", "insert", "pop", "remove", "reverse", "setdefault", "update", "add"}
+        for file, _ in self.each():
+            for loop in nodes(file, ast.For):
+                over = {ast.dump(part) for part in ast.walk(loop.iter) if isinstance(part, (ast.Name, ast.Attribute))}
+                for node in [part for line in loop.body for part in ast.walk(line)]:
+                    if isinstance(node, ast.Call) and getattr(node.func, "attr", "") in changing:
+                        self.assertNotIn(ast.dump(node.func.value), over)
+                    if isinstance(node, ast.Subscript) and isinstance(node.ctx, (ast.Store, ast.Del)):
+                        changed = ast.dump(node.value).replace("Store()", "Load()").replace("Del()", "Load()")
+                        self.assertNotIn(changed, over)
 
     def test_tables_at_module_level_hold_no_lists(self):
         for _, tree in self.each():

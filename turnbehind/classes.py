@@ -80,11 +80,16 @@ def rooms_left(rooms, places):
     return {place: rooms[place] - places.count(place) for place in rooms}
 
 
+def check_class(world, most):
+    """Raises TooLarge if the world has too many live ways, or its class more worlds than a search can take."""
+    count = count_class(world)
+    if count > most:
+        raise TooLarge("class", count)
+
+
 def members(world):
     """The list of all worlds of the class, in class order; raises TooLarge."""
-    count = count_class(world)
-    if count > MOST_MEMBERS:
-        raise TooLarge("class", count)
+    check_class(world, MOST_MEMBERS)
     names = walker_names(world)
     found = []
     for heads in pointings(world):

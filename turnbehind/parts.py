@@ -88,6 +88,13 @@ def peopled(web, heads, sizes, spots):
     return (web, heads, tuple(crowd))
 
 
+def lifted(world, way):
+    """The world without this way of it."""
+    web, heads, crowd = world
+    at = way_at(web, way)
+    return ((web[0], web[1][:at] + web[1][at + 1:]), heads[:at] + heads[at + 1:], crowd)
+
+
 def check_like(one, other):
     """Raises Unlike if two worlds do not have one web and the same names."""
     if one[0] != other[0]:
