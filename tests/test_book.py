@@ -30,6 +30,8 @@ WRONG_ROWS = [
     ("deed", None, None), ("deed", "u", False), ("deed", "u", True), ("deed", "u", 0), ("deed", "u", ("bo",)),
     ("deed", "u", ["bo"]), ("deed", True, "bo"), ("deed", "", ""), ("deeds", "u", None), ("Deed", "u", None),
     (None, "u", None), (True, "u", None), (("deed",), "u", None), (["deed"], "u", None), (0, "u", None),
+    ("deed", ("lift", "u")), ("claim", ("lift", "u")), (None, ("lift", "u")), ("", ("lift", "u")),
+    ("change", START, True, ()), (None, START, True, ()), ("change", "u", None), ("claim", "u", None),
     ("change",), ("change", "lift", "u"), ("change", ("lift", "u"), None), ["change", ("lift", "u")],
     ("change", ["lift", "u"]), ("change", None), ("change", ()), ("change", "lift"), ("change", ("lift",)),
     ("change", ("lift", "zz")), ("change", ("lift", None)), ("change", ("lift", ["u"])), ("change", ("lift", True)),

@@ -286,6 +286,10 @@ class Fates(Case):
         self.fails(Unlike("web"), fate, one, make_world(make_web(["a", "b"], rows[:1])), ("lay", "z", "a", "b"))
         self.fails(Unlike("web"), fate, one, make_world(make_web(["a", "b"], rows[:1])), ("lift", "u"))
         self.fails(Unlike("names"), fate, one, two_ways(), ("come", "a", "bo"))
+        # The change would make the webs equal.
+        webs = [make_web(["a", "b", "c"], [("u", *ends), ("v", "a", "b")]) for ends in ("ab", "bc")]
+        self.fails(Unlike("web"), fate, make_world(webs[0], named=[("al", "a")]), make_world(webs[1]), ("lift", "u"))
+        self.fails(Unlike("web"), fate, make_world(webs[0]), make_world(webs[1]), ("lift", "u"))
         self.fails(Unlike("names"), fate, two_ways(named=[("bo", "a")]), one, ("lift", "u"))
         full = make_world(make_web(["a", "b"], [(f"w{k}", "a", "b") for k in range(14)]))
         self.fails(BadSize("ways", 15), fate, one, full, ("lay", "u", "zz", "zz"))

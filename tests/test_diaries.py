@@ -100,6 +100,7 @@ class Making(Case):
             self.fails(BadNumber(number), make_diary, PAIR, [(0, "way", "zz", "zz"), (number, "way", "u", "a")])
             self.fails(BadNumber(number), make_diary, PAIR, [(0, "place", "a", number), (number, "way", "u", "a")])
             self.fails(BadNumber(number), make_diary, PAIR, [[number, "place", "a", "many"], (-5, "way", "u", "a")])
+            self.fails(BadNumber(number), make_diary, PAIR, [(0, "way", "zz", "zz"), (8, "place", "zz", number)])
         late = [(8, "place", "a", 8), (11, "place", "a", 10), (12, "way", "u", "a")]
         self.fails(BadNumber(11), make_diary, PAIR, late)
         self.fails(BadNumber(-7), make_diary, PAIR, [(0, "way", "u", "a")] * 9 + [(-7, "place", "a", 0)])

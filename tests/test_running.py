@@ -224,6 +224,12 @@ class Fuel(Case):
         self.same(run(("each", ("u",) * 60), alone, "al", fuel=60)[0], alone)
         self.fails(NoRun((), "no end"), run, ("each", ("u",) * 61), alone, "al", fuel=60)
         self.same(outcome(("each", ("u",) * 25), alone, "al"), ("refused", "no end"))
+        self.same(outcome(("each", ("u",) * 24), alone, "al"), ("ends", alone))
+        least, *_ = members(alone)
+        self.same(find_parting(("each", ("u",) * 24), ("each", ("u",) * 22), alone, "al"), None)
+        self.same(find_parting(("each", ("u",) * 25), ("each", ("u",) * 23), alone, "al"), least)
+        self.same(find_parting(("by", "u"), ("seq", ()), alone, "al", fuel=0), least)
+        self.same(find_parting(("each", ("u", "v")), ("by", "u"), alone, "al", fuel=0), members(alone)[1])
 
     def test_no_end_with_another_cause(self):
         for text, fuel, at, cause in (

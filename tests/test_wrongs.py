@@ -201,6 +201,16 @@ class WrongSets(Case):
         self.assertGreater(len(wrong_sets(diary=late, most=10) + found), 10)
         self.same((wrong_sets(late, most=10), wrong_sets(late, most=1)), (found[:10], found[:1]))
 
+    def test_ten_of_sixteen(self):
+        # Within two deeds al can move or stay, so of each two entries either one may go.
+        world = make_world(make_web(["a", "b"], [("u", "a", "b"), ("v", "a", "b"), ("w", "a", "b")]),
+                           heads=[("u", "a")], alike=[("a", 1), ("b", 1)], named=[("al", "a")])
+        diary = make_diary(world, [(2 * k, "name", "al", place) for k in range(1, 5) for place in "ab"])
+        every = list(product((0, 1), (2, 3), (4, 5), (6, 7)))
+        self.same((least_wrong(diary), wrong_sets(diary, most=70)), (4, every))
+        self.same((wrong_sets(diary), wrong_sets(diary, most=11), wrong_sets(diary, most=16)),
+                  (every[:10], every[:11], every))
+
     def test_new_list(self):
         diary = make_diary(PAIR, [(1, "place", "a", 1)])
         wrong_sets(diary).append("more")

@@ -29,17 +29,17 @@ def first_difference(one, other):
 
 def shortened(book):
     """A new book in which each run of deeds is shortened."""
-    rows = []
+    kept = []
     deeds = []
     for index, row in enumerate(book.rows):
         if row[0] == "deed":
             deeds.append(row[1:])
         else:
-            rows.extend(deed_rows(book.world_at(index - len(deeds)), deeds))
-            rows.append(row)
+            kept.extend(deed_rows(book.world_at(index - len(deeds)), deeds))
+            kept.append(row)
             deeds = []
-    rows.extend(deed_rows(book.world_at(len(book) - len(deeds)), deeds))
-    return Book.made(book.start, rows)
+    kept.extend(deed_rows(book.world_at(len(book) - len(deeds)), deeds))
+    return Book.made(book.start, kept)
 
 
 def deed_rows(world, deeds):

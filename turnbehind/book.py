@@ -5,7 +5,6 @@ from turnbehind.errors import BadClaim, BadRow, NothingLeft, TurnError
 from turnbehind.histories import is_history, trace
 from turnbehind.names import check_number
 from turnbehind.papers import is_paper
-from turnbehind.parts import check_like
 from turnbehind.worlds import is_world, tuple_of
 
 CHANGES = ("lay", "lift", "come", "gone")
@@ -66,7 +65,6 @@ class Book:
     def claim(self, end, says, paper):
         """Adds the row of a claim about the current world; raises Unlike, BadClaim."""
         now = self.world
-        check_like(now, end)
         if not (is_history(now, paper, end) if says else is_paper(now, end, paper)):
             raise BadClaim()
         self._write(("claim", end, says, paper), now)

@@ -2,7 +2,7 @@
 
 from turnbehind.errors import BadSize, Occupied, Unlike
 from turnbehind.names import check_number, check_once
-from turnbehind.parts import arrows, check_places, lifted, occupied, way_at, way_names
+from turnbehind.parts import arrows, check_places, lifted, occupied, way_names
 from turnbehind.reaches import dues, pointed, steps_from
 from turnbehind.tables import check_bare
 
@@ -112,7 +112,6 @@ def are_alike(one, other):
 def lift_way(piece, way):
     """The piece without the way; raises Unknown."""
     world, border = piece
-    way_at(world[0], way)
     return (lifted(world, way), border)
 
 

@@ -89,7 +89,7 @@ def peopled(web, heads, sizes, spots):
 
 
 def lifted(world, way):
-    """The world without this way of it."""
+    """The world without the way; raises Unknown."""
     web, heads, crowd = world
     at = way_at(web, way)
     return ((web[0], web[1][:at] + web[1][at + 1:]), heads[:at] + heads[at + 1:], crowd)
